@@ -1,0 +1,1 @@
+"""Mendedtree: syntax trees that are kept while their texts are edited."""

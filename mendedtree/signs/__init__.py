@@ -1,0 +1,1 @@
+"""Characters, patterns and automata."""
