@@ -20,7 +20,7 @@ class MatchingTest(unittest.TestCase):
 
     def test_sets_rows_and_choices(self):
         self.check('"a"', False, "a", "a")
-        self.check("[c-ab]".replace("c-a", "a-c"), False, "abc", "a")
+        self.check("[b-da]", False, "abcd", "a")
         self.check('""', True, "", "")
         self.check('"ba"', False, "b", "ba")
         self.check('"b"? [ca] "x"', False, "abc", "ax")
