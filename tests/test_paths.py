@@ -89,6 +89,10 @@ class PathToTest(unittest.TestCase):
         for node, place in ((TREE, -1), (TREE, 9), (SUM, 6), (SUM, -1), (AB, 3), (NOTHING, 0), (LOST, 0), (LOST, 1), (END, 2)):
             self.assertEqual(raised(path_to, node, place), ("NoNode", ()))
 
+    def test_characters_without_a_leaf(self):
+        hollow = Node("error", "s", state=0, lead=0, width=2, look=3)
+        self.assertEqual(raised(path_to, root(hollow, leaf("end", 0)), 1), ("NoNode", ()))
+
     def test_empty_text(self):
         tree = root(NOTHING, leaf("end", 0))
         self.assertEqual(path_to(tree, 0), (1,))

@@ -134,6 +134,9 @@ class FaultsTest(unittest.TestCase):
             ("[a--]", 2), ("[a-b-c]", 4), ("[^-a]", 2), ("-", 0), ("^", 0), ('"a" , "b"', 4), ("#", 0), ("[a-c-]", 4), ('"a"|{1}', 4),
         ])
 
+    def test_what_is_no_character(self):
+        self.check("character", [('"a%"', 2), ("[a%]", 2), ("[a-%]", 3), ("%", 0), ('"\r"', 1), ('"a" \xe9', 4)])
+
     def test_the_first_fault_that_is_met(self):
         self.check("stray", [('"a`\\q', 2), ("[`-\\q]", 1), ('"`', 1)])
         self.check("escape", [('"\\q`', 1), ("[b-\\q]", 3)])

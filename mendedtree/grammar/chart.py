@@ -25,8 +25,6 @@ class Chart:
 
     def derives(self, kinds):
         """Tells whether a row of kinds can be derived from the start rule."""
-        if not kinds:
-            return self._start in self._empty
         column = Column(0)
         self._expect(column, self._start)
         for place, kind in enumerate(kinds):
@@ -41,8 +39,6 @@ class Chart:
 
     def _expect(self, column, rule):
         """Begins the alternatives of a rule at the place of a column."""
-        if column.is_expected(rule):
-            return
         for number in self._numbers[rule]:
             column.put(number, 0, 1 << column.place)
 
@@ -75,13 +71,6 @@ class Column:
         self.place = place
         self.news = []
         self._origins = {}
-        self._expected = {}
-
-    def is_expected(self, rule):
-        """Tells whether a rule was expected here before, and notes that it is now."""
-        known = rule in self._expected
-        self._expected[rule] = True
-        return known
 
     def put(self, number, position, origins):
         """Adds origins to a dotted alternative."""

@@ -40,9 +40,7 @@ class Line:
             self._place += 1
 
     def first_word(self):
-        """The name with which the line begins, or an empty string."""
-        if self._next_char() == "" or self._next_char() not in LETTERS:
-            return ""
+        """The word with which the line begins, or an empty string."""
         return self._name()
 
     def _name(self):
