@@ -167,7 +167,7 @@ class LanguageTest(unittest.TestCase):
 
     def test_statements_and_expressions(self):
         banned = (
-            ast.GeneratorExp, ast.AnnAssign, ast.NamedExpr, ast.Yield, ast.YieldFrom, ast.Await, ast.Global,
+            ast.GeneratorExp, ast.AnnAssign, ast.NamedExpr, ast.YieldFrom, ast.Await, ast.Global,
             ast.Nonlocal, ast.With, ast.Match, ast.Div, ast.MatMult, ast.Set,
         )
         for path, node in self.each_node():
@@ -292,6 +292,32 @@ class LanguageTest(unittest.TestCase):
                 if (named or view) and node not in allowed:
                     self.fail_at(path, node, "kept instead of iterated")
 
+    def test_generators_are_iterated_at_once(self):
+        names = set()
+        for path, node in self.each_node():
+            if isinstance(node, ast.FunctionDef) and any(isinstance(part, ast.Yield) for part in ast.walk(node)):
+                self.assertIn(node, TREES[path].body, "only functions yield")
+                names.add(node.name)
+                own = [part for part in ast.walk(node) if isinstance(part, ast.Expr) and isinstance(part.value, ast.Yield)]
+                self.assertEqual(len(own), len([part for part in ast.walk(node) if isinstance(part, ast.Yield)]))
+                self.assertFalse([part for part in ast.walk(node) if isinstance(part, (ast.Return, ast.Try))])
+        self.assertFalse(names & (own_methods() | own_attributes()))
+        users = {"list", "tuple", "dict", "sorted", "sum", "any", "all", "enumerate", "zip", "min", "max"}
+        for path, tree in TREES.items():
+            allowed, called = set(), set()
+            for node in ast.walk(tree):
+                if isinstance(node, (ast.For, ast.comprehension)):
+                    allowed.add(node.iter)
+                if isinstance(node, ast.Call) and isinstance(node.func, ast.Name) and node.func.id in users:
+                    allowed |= set(node.args)
+                if isinstance(node, ast.Call):
+                    called.add(node.func)
+            for node in ast.walk(tree):
+                if isinstance(node, ast.Name) and node.id in names:
+                    self.assertIn(node, called, f"{path}:{node.lineno}")
+                if isinstance(node, ast.Call) and isinstance(node.func, ast.Name) and node.func.id in names:
+                    self.assertIn(node, allowed, f"{path}:{node.lineno}")
+
     def test_sets(self):
         for path, tree in TREES.items():
             allowed = set()
@@ -322,6 +348,16 @@ class LanguageTest(unittest.TestCase):
                     changed = ast.unparse(part.value)
                 if changed in over:
                     self.fail_at(path, part, f"changes {changed}")
+
+    def test_only_numbers_are_changed_in_place(self):
+        for path, node in self.each_node():
+            if isinstance(node, ast.AugAssign):
+                counts = isinstance(node.value, ast.Constant) and isinstance(node.value.value, int)
+                if not counts or not isinstance(node.op, (ast.Add, ast.Sub)):
+                    self.fail_at(path, node, "changed in place")
+            if isinstance(node, ast.Call) and isinstance(node.func, ast.Attribute):
+                if node.func.attr in ("extend", "update"):
+                    self.assertNotEqual(ast.unparse(node.func.value), ast.unparse(node.args[0]), path)
 
     def test_errors(self):
         own = {"MendedError", "HistoryError"}

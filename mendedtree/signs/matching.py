@@ -24,7 +24,7 @@ def first_chars(pattern):
         return first_chars(pattern[1])
     chars = ""
     for member in pattern[1]:
-        chars += first_chars(member)
+        chars = chars + first_chars(member)
         if not matches_empty(member):
             break
     return in_order(chars)

@@ -151,7 +151,7 @@ def _read_set(notation, place):
         if at >= len(notation):
             raise PatternError(place, "open")
         more, at = _read_member(notation, place, at)
-        chars += more
+        chars = chars + more
     if inverted:
         chars = "".join([char for char in PLAIN if char not in chars])
     if chars == "":
@@ -203,7 +203,7 @@ def _write_row(members):
     literal = ""
     for member in members:
         if _is_single(member):
-            literal += member[1]
+            literal = literal + member[1]
             continue
         if literal != "":
             words.append(write_literal(literal))

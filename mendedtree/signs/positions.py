@@ -17,7 +17,7 @@ class Positions:
         empty, first, self.last = self._put(pattern)
         self._link(1, first)
         if empty:
-            self.last |= 1
+            self.last = self.last | 1
         self.by_char = self._find_by_char()
 
     def _find_by_char(self):
@@ -32,12 +32,12 @@ class Positions:
         """The positions that can follow one of a set."""
         found = 0
         for position in ones(positions):
-            found |= self.follow[position]
+            found = found | self.follow[position]
         return found
 
     def _link(self, before, behind):
         for position in ones(before):
-            self.follow[position] |= behind
+            self.follow[position] = self.follow[position] | behind
 
     def _put(self, pattern):
         """Adds a pattern; tells whether it matches the empty text, and which of its positions can be first and last."""
@@ -62,9 +62,9 @@ class Positions:
             one = self._put(member)
             self._link(last, one[1])
             if empty:
-                first |= one[1]
+                first = first | one[1]
             if one[0]:
-                last |= one[2]
+                last = last | one[2]
             else:
                 last = one[2]
             empty = empty and one[0]
@@ -89,7 +89,7 @@ class Positions:
             self._link(last, newest)
             last = behind
             if count >= least:
-                ends |= last
+                ends = ends | last
         if most is None:
             self._link(last, newest)
         return least == 0, first, ends
@@ -101,5 +101,5 @@ def ones(number):
     while number:
         lowest = number & -number
         places.append(lowest.bit_length() - 1)
-        number ^= lowest
+        number = number ^ lowest
     return places

@@ -22,3 +22,45 @@ class Node:
 def is_leaf(node):
     """Tells whether a node is a leaf; inner nodes and error nodes may be without children, too."""
     return node.alternative == -1 and node.kind not in ("error", "root")
+
+
+def same(first, second):
+    """Tells whether two trees have equal attributes at all paths."""
+    # Pairs are compared once only, because a tree may contain one node at very many paths.
+    compared = {(first, second): True}
+    waiting = [(first, second)]
+    while waiting:
+        one, other = waiting.pop()
+        if one == other:
+            # This is one object, for nodes have no equality of their own.
+            continue
+        if _attributes(one) != _attributes(other):
+            return False
+        for pair in zip(one.nodes, other.nodes):
+            if pair not in compared:
+                compared[pair] = True
+                waiting.append(pair)
+    return True
+
+
+def _attributes(node):
+    """All attributes of a node, with the number of its children instead of the children themselves."""
+    numbers = (node.state, node.lead, node.width, node.look, node.alternative, len(node.nodes), node.popped)
+    return (node.kind, node.symbol, *numbers)
+
+
+def walk(node, place=0):
+    """Yields the pairs (place, node) of a node that stands at a place and all its descendants, outer nodes first."""
+    waiting = [(place, node)]
+    while waiting:
+        begin, last = waiting.pop()
+        yield begin, last
+        end = begin + sum([child.width for child in last.nodes])
+        for child in reversed(last.nodes):
+            end = end - child.width
+            waiting.append((end, child))
+
+
+def leaves(node, place=0):
+    """The pairs (place, leaf) of all leaves of a node that stands at a place, in their order."""
+    return [(begin, each) for begin, each in walk(node, place) if is_leaf(each)]

@@ -9,7 +9,7 @@ def at_path(node, path, place=0):
     for index in path:
         if index < 0 or index >= len(node.nodes):
             raise NoNode(path)
-        place += sum([child.width for child in node.nodes[:index]])
+        place = place + sum([child.width for child in node.nodes[:index]])
         node = node.nodes[index]
     return place, node
 
@@ -35,7 +35,7 @@ def _child_at(node, offset):
     for index, child in enumerate(node.nodes):
         if offset < child.width:
             return index, offset
-        offset -= child.width
+        offset = offset - child.width
     return -1, offset
 
 

@@ -23,6 +23,6 @@ def _children(grammar, node, offset, outer):
     for label, child in zip(labels, node.nodes):
         # A child without a label of its own takes that of the hidden node around it.
         found.append((offset, label or outer, child))
-        offset += child.width
+        offset = offset + child.width
     found.reverse()
     return found

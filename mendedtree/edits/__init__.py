@@ -1,0 +1,1 @@
+"""Edits of texts, and what survives them."""

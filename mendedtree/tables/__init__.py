@@ -1,0 +1,1 @@
+"""Tables by which texts are read."""
