@@ -55,10 +55,17 @@ def walk(node, place=0):
     while waiting:
         begin, last = waiting.pop()
         yield begin, last
-        end = begin + sum([child.width for child in last.nodes])
-        for child in reversed(last.nodes):
-            end = end - child.width
-            waiting.append((end, child))
+        waiting.extend(placed_nodes(last.nodes, begin))
+
+
+def placed_nodes(nodes, place):
+    """The pairs (place, node) of nodes that stand one behind the other from a place on, from the last to the first."""
+    found = []
+    for node in nodes:
+        found.append((place, node))
+        place = place + node.width
+    found.reverse()
+    return found
 
 
 def leaves(node, place=0):

@@ -1,0 +1,113 @@
+"""Texts that show that a footprint cannot be shorter."""
+
+from mendedtree.errors import NoWitness
+from mendedtree.reading.mending import Mending
+from mendedtree.reading.reader import read_text
+from mendedtree.reading.tracing import steps_of
+from mendedtree.signs.alphabet import STRAY
+from mendedtree.signs.matching import least_match
+from mendedtree.trees.node import is_leaf
+from mendedtree.trees.paths import at_path
+
+
+def witness(table, text, path, place):
+    """A text that is equal before a place of the footprint of a node and does not have this node there."""
+    begin, node = at_path(read_text(table, text), path)
+    if place < begin or place >= begin + node.look:
+        raise NoWitness(place)
+    if node.state < 0:
+        return _other_leaf(table, text, begin, place)
+    # The first question that examines the place gets another answer; then another node is built.
+    for step in steps_of(table, node, begin):
+        found = _other_step(table, text, place, step)
+        if found is not None:
+            break
+    return found
+
+
+def _other_leaf(table, text, at, place):
+    """A text in which the scan of a skipped leaf finds something else."""
+    return table.lexicon.other_scan(text, at, [*table.lexicon.names, "end"], place - at)
+
+
+def _other_step(table, text, place, step):
+    """A text in which a step differs; None, if the step does not examine the place."""
+    at, top, action, node = step
+    offers = table.offers(top)
+    if place < at + table.lexicon.decide(text, at, offers)[1]:
+        return table.lexicon.other(text, at, offers, place - at)
+    if action[0] == "shift" and place < at + node.look:
+        return table.lexicon.other_scan(text, at, list(offers), place - at)
+    if action[0] == "recover":
+        return _other_recovery(table, text, place, step)
+    return None
+
+
+def _other_recovery(table, text, place, step):
+    """A text in which a recovery differs; None, if it does not examine the place."""
+    at, top, _, node = step
+    popped = node.nodes[:node.popped]
+    states = [child.state for child in popped] + [top]
+    mending = Mending(table, text)
+    holds = False
+    for depth in range(len(popped), -1, -1):
+        holds = holds or any([_holds_leaf(child) for child in popped[depth:depth + 1]])
+        for rule in table.grammar.recover:
+            target = table.goto(states[depth], rule)
+            if target < 0 or not table.offers(target):
+                continue
+            end = mending.attempt(target, at, holds)[0]
+            if end < 0:
+                # This try failed, so it examined everything. It succeeds where something stands that its state offers.
+                return text[:place] + STRAY + _offered_text(table, target)
+            return _other_try(table, text, place, (target, at, end, holds))
+    return _other_resort(table, text, place, at)
+
+
+def _holds_leaf(node):
+    """Tells whether a node has a leaf that is not inside an error node."""
+    waiting = [node]
+    while waiting:
+        last = waiting.pop()
+        if is_leaf(last):
+            return True
+        if last.kind != "error":
+            waiting.extend(list(last.nodes))
+    return False
+
+
+def _offered_text(table, state):
+    """A text in which a state finds something that it offers."""
+    offers = table.offers(state)
+    if "end" in offers:
+        return ""
+    return [least_match(pattern) for name, pattern in table.grammar.kinds if name in offers][0]
+
+
+def _other_try(table, text, place, success):
+    """A text in which a try that succeeds differs; None, if it does not examine the place."""
+    target, at, end, asks = success
+    mending = Mending(table, text)
+    while True:
+        if asks and place < at + table.sight(target).has_answer(text, at)[1]:
+            return table.lexicon.other(text, at, {name: 0 for name in table.offers(target)}, place - at)
+        if asks and at == end:
+            return None
+        _, _, behind, far = mending.leaf_at(at)
+        if place < far:
+            return _other_leaf(table, text, at, place)
+        at = behind
+        asks = True
+
+
+def _other_resort(table, text, place, at):
+    """A text in which the last resort differs; None, if it does not examine the place."""
+    mending = Mending(table, text)
+    kind, _, behind, far = mending.leaf_at(at)
+    while kind != "end" and place >= far:
+        at = behind
+        kind, _, behind, far = mending.leaf_at(at)
+    if kind != "end":
+        return _other_leaf(table, text, at, place)
+    # One more leaf is skipped if the text does not end there.
+    return text[:place] + STRAY if place < far else None
