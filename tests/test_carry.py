@@ -31,6 +31,10 @@ class RunsTest(unittest.TestCase):
             self.assertEqual(carry_of(3, edits).runs, ((0, 0, 4),))
         self.assertEqual(carry_of(0, []).runs, ((0, 0, 1),))
 
+    def test_runs_that_grow_together_again(self):
+        self.assertEqual(carry_of(6, [(1, 2, ""), (3, 3, "x")]).runs, ((0, 0, 1), (2, 1, 2), (4, 4, 3)))
+        self.assertEqual(carry_of(6, [(1, 2, ""), (3, 3, "x"), (3, 4, "")]).runs, ((0, 0, 1), (2, 1, 5)))
+
     def test_both_ends(self):
         self.assertEqual(carry_of(3, [(0, 0, "ab")]).runs, ((0, 2, 4),))
         self.assertEqual(carry_of(3, [(3, 3, "ab")]).runs, ((0, 0, 3), (3, 5, 1)))

@@ -129,7 +129,7 @@ class FaultTest(unittest.TestCase):
         for words in (
             "n", "n shift", "n shift 1", "n shift 00", "n shift -1", "n shift n", "n reduce", "n reduce 2", "n reduce 01", "n accept 0", "n error",
             "n goto 0", "sum shift 0", "sum goto", "sum goto 1", "sum accept", "sum", "m shift 0", '"-" shift 0', '"+ shift 0', '"+', '"+"" accept',
-            '"+"n accept', "+ accept", "end", "end error", "end goto 0", "root accept", "error accept", "n shift " + "1" * 5000,
+            '"+"n accept', '"+"xaccept', '"+""accept', "+ accept", "end", "end error", "end goto 0", "root accept", "error accept", "n shift " + "1" * 5000,
             "n accept n accept", "end accept n accept", 'n accept "+" accept', "sum goto 0 end accept", "sum goto 0 sum goto 0", "n accept :",
             '"\\+" accept', '"+\\" accept', "shift 0", "n shift 0 0", ":",
         ):

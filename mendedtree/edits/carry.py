@@ -25,20 +25,11 @@ class Carry:
 
     def to_new(self, place):
         """The new place of the item at an old place, or -1."""
-        # The run can only be the last one that begins at or before the place.
-        index = _count_up_to(self.runs, 0, place) - 1
-        if index < 0:
-            return -1
-        old, new, count = self.runs[index]
-        return new + place - old if place < old + count else -1
+        return _across(self.runs, 0, place)
 
     def to_old(self, place):
         """The old place of the item at a new place, or -1."""
-        index = _count_up_to(self.runs, 1, place) - 1
-        if index < 0:
-            return -1
-        old, new, count = self.runs[index]
-        return old + place - new if place < new + count else -1
+        return _across(self.runs, 1, place)
 
     def intact(self, start, end):
         """Tells whether the items from an old place to another one survive as consecutive items."""
@@ -64,12 +55,21 @@ class Carry:
         return self.runs[index + 1][1]
 
 
-def _count_up_to(runs, part, place):
-    """The number of the runs whose old (part 0) or new place (part 1) is not greater than a place."""
+def _across(runs, text, place):
+    """The place, in the other text, of the item at a place of the old text (text 0) or the new one (text 1), or -1."""
+    # The run can only be the last one that begins at or before the place.
+    index = _count_up_to(runs, text, place) - 1
+    if index < 0 or place >= runs[index][text] + runs[index][2]:
+        return -1
+    return runs[index][1 - text] + place - runs[index][text]
+
+
+def _count_up_to(runs, text, place):
+    """The number of the runs that begin at or before a place of the old text (text 0) or the new one (text 1)."""
     low, high = 0, len(runs)
     while low < high:
         middle = (low + high) // 2
-        if runs[middle][part] <= place:
+        if runs[middle][text] <= place:
             low = middle + 1
         else:
             high = middle
@@ -81,8 +81,9 @@ def _through(first, second):
     pieces = []
     at = 0
     for old, new, count in first:
-        # Runs of the second carry that end before this run also end before all further runs.
-        while at < len(second) and second[at][0] + second[at][2] <= new:
+        # Runs of the second carry that end before this run also end before all further runs. The last one never does,
+        # for it ends with the end of the text.
+        while second[at][0] + second[at][2] <= new:
             at += 1
         index = at
         while index < len(second) and second[index][0] < new + count:

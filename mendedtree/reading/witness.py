@@ -13,16 +13,15 @@ from mendedtree.trees.paths import at_path
 def witness(table, text, path, place):
     """A text that is equal before a place of the footprint of a node and does not have this node there."""
     begin, node = at_path(read_text(table, text), path)
-    if place < begin or place >= begin + node.look:
-        raise NoWitness(place)
-    if node.state < 0:
-        return _other_leaf(table, text, begin, place)
-    # The first question that examines the place gets another answer; then another node is built.
-    for step in steps_of(table, node, begin):
-        found = _other_step(table, text, place, step)
-        if found is not None:
-            break
-    return found
+    if begin <= place < begin + node.look:
+        if node.state < 0:
+            return _other_leaf(table, text, begin, place)
+        # The first question that examines the place gets another answer; then another node is built.
+        for step in steps_of(table, node, begin):
+            found = _other_step(table, text, place, step)
+            if found is not None:
+                return found
+    raise NoWitness(place)
 
 
 def _other_leaf(table, text, at, place):

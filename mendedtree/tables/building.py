@@ -1,5 +1,6 @@
 """Building the table of a grammar."""
 
+from mendedtree.grammar.order import ordered_symbols
 from mendedtree.signs.refining import blocks_of
 from mendedtree.tables.states import States
 from mendedtree.tables.table import Table
@@ -8,7 +9,7 @@ from mendedtree.tables.table import Table
 def build_table(grammar):
     """The table of a grammar."""
     states = States(grammar)
-    names = [name for name, _ in grammar.kinds] + ["end"] + list(grammar.rules)
+    names = ordered_symbols(grammar)
     blocks = _blocks_of(states)
     # A state of the table is numbered when the first of its item states comes.
     numbers = {}

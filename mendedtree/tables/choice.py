@@ -15,16 +15,15 @@ class Chooser:
         self._members = [_member_of(alternative, kinds) for alternative in grammar.alternatives]
 
     def choose(self, kind, candidates):
-        """The action for a kind (or `end`) and the reason; the reason is empty if there is only one candidate."""
-        reason = "order" if len(candidates) > 1 else ""
+        """The action for a kind or `end`, and the reason, which counts only if there are several candidates."""
         if ("accept",) in candidates:
-            return ("accept",), reason
+            return ("accept",), "order"
         reductions = [each for each in candidates if each[0] == "reduce"]
         if not reductions:
-            return ("shift",), reason
+            return ("shift",), "order"
         if ("shift",) in candidates:
             return self._compared(kind, min(reductions))
-        return min(reductions), reason
+        return min(reductions), "order"
 
     def _compared(self, kind, reduction):
         """The choice between the shift of a kind and a reduction."""

@@ -1,6 +1,7 @@
 """The items of a grammar and their closures."""
 
 from mendedtree.grammar.firsts import Firsts
+from mendedtree.grammar.order import ordered_symbols
 
 
 class Items:
@@ -13,7 +14,7 @@ class Items:
     """
 
     def __init__(self, grammar):
-        self.names = [name for name, _ in grammar.kinds] + ["end"] + list(grammar.rules)
+        self.names = ordered_symbols(grammar)
         self.end = len(grammar.kinds)
         # For each item the number of its next symbol, or -1, and the number of its alternative.
         self._next_symbols = []

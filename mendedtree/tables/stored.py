@@ -1,6 +1,7 @@
 """The written form of tables."""
 
 from mendedtree.errors import TableError
+from mendedtree.grammar.order import ordered_symbols
 from mendedtree.tables.table import Table
 from mendedtree.tables.words import Words
 
@@ -59,15 +60,9 @@ def read_table(grammar, notation):
     return Table(grammar, actions, gotos, clashes)
 
 
-def _places(grammar):
-    """The places of the symbols in the order of symbols."""
-    names = [name for name, _ in grammar.kinds] + ["end"] + list(grammar.rules)
-    return {name: place for place, name in enumerate(names)}
-
-
 def _read_state(number, words, grammar, count):
     """The actions and the states behind rules that a state's line tells behind its number."""
-    places = _places(grammar)
+    places = {name: place for place, name in enumerate(ordered_symbols(grammar))}
     actions, gotos = {}, {}
     before = -1
     while not words.is_done():

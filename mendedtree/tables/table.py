@@ -56,7 +56,7 @@ class Table:
                 symbol = self._difference(pair[0], pair[1])
                 if symbol is not None:
                     return _row_to(came, pair), symbol
-                for shared, one, other in self._ways_of_both(pair[0], pair[1]):
+                for shared, one, other in self._ways(pair[0], pair[1]):
                     if one != other and (one, other) not in came:
                         came[(one, other)] = (pair, shared)
                         later.append((one, other))
@@ -74,15 +74,15 @@ class Table:
                 return rule
         return None
 
-    def _ways_of_both(self, first, second):
-        """The triples (symbol, state, state) of the symbols along which one can go from two states, in their order."""
+    def _ways(self, first, second):
+        """The triples (symbol, state, state) of the ways from two states that do not differ, in the order of symbols."""
         ways = []
         for kind in self._kinds:
             one, other = self.action(first, kind), self.action(second, kind)
-            if one[0] == "shift" and other[0] == "shift":
+            if one[0] == "shift":
                 ways.append((kind, one[1], other[1]))
         for rule in self.grammar.rules:
-            if rule in self._gotos[first] and rule in self._gotos[second]:
+            if rule in self._gotos[first]:
                 ways.append((rule, self._gotos[first][rule], self._gotos[second][rule]))
         return ways
 

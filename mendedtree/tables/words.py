@@ -9,7 +9,8 @@ def words_of(number, line):
     place = 0
     while place <= len(line):
         end = _end_of_word(line, place)
-        if end == place or line[end:end + 1] not in ("", " "):
+        # A literal, too, must end where a space stands or the line ends.
+        if line[end:end + 1] not in ("", " "):
             raise TableError(number)
         words.append(line[place:end])
         place = end + 1

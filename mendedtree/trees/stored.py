@@ -1,12 +1,11 @@
 """The written form of trees."""
 
 from mendedtree.errors import TreeError
+from mendedtree.grammar.line import LETTERS, NAME_CHARS
 from mendedtree.signs.alphabet import PLAIN
 from mendedtree.trees.node import Node
 
-LETTERS = "abcdefghijklmnopqrstuvwxyz"
 DIGITS = "0123456789"
-NAME_CHARS = "abcdefghijklmnopqrstuvwxyz0123456789_~"
 MOST_DIGITS = 9
 
 
