@@ -117,6 +117,14 @@ class FaultTest(unittest.TestCase):
         ):
             self.check(line, notation)
 
+    def test_leading_zeros(self):
+        states = "".join(f"state {number}\n" for number in range(1, 12))
+        self.check(1, "state 0 n shift 01\n" + states)
+        self.check(1, "state 0 sum goto 09\n" + states)
+        self.check(1, "state 0 n shift 12\n" + states)
+        self.check(2, "state 0\n" + states.replace("state 1\n", "state 01\n"))
+        self.assertEqual(read_table(GRAMMAR, "state 0 n shift 11\n" + states).action(0, "n"), ("shift", 11))
+
     def test_states_and_clashes(self):
         clash = "clash : n : shift : shift : order\n"
         self.check(2, clash + "state 0\n")

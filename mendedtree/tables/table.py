@@ -75,7 +75,7 @@ class Table:
         return None
 
     def _ways(self, first, second):
-        """The triples (symbol, state, state) of the ways from two states that do not differ, in the order of symbols."""
+        """The triples (symbol, state, state) of the ways from two states that do not differ, in their order."""
         ways = []
         for kind in self._kinds:
             one, other = self.action(first, kind), self.action(second, kind)
