@@ -20,6 +20,7 @@ TABLE = build_table(read_grammar(TINY))
 STATEMENT = 'language a\nskip [ ]\nrecover e\nrule s = "a" e ";"\nrule e = "n"\n'
 # Behind r the kind n is an error, because of the side none, so that the state behind r offers nothing.
 BLIND = 'language a\nstep none n\nkind n = [0-9]\nRECOVER\nrule s = r n | q n | t "z"\nrule q = r @n\nrule r = "x" "y"\nrule t = "x" "w"\n'
+QUESTION = 'language q\nskip [ ]\nkind gap = " a"\nrecover e\nrule s = "(" e "abc" | "(" e "b" | gap\nrule e = "n" "m"\n'
 
 
 def table_of(notation):
@@ -245,6 +246,13 @@ class LookTest(unittest.TestCase):
         self.assertEqual(self.looks(table, "(n)"), [
             (0, "root", 4), (0, "s", 4), (0, '"("', 1), (1, "error", 3), (1, '"n"', 1), (2, '")"', 1), (3, "end", 1),
         ])
+
+    def test_a_question_examines_more_than_the_scans_behind_it(self):
+        # Behind "(n" the question skips the space and examines "abd", but the skipped leaf is " a", and then "b" will do.
+        table = table_of(QUESTION)
+        self.assertEqual(self.looks(table, "(n ab")[3:7], [(1, "error", 5), (1, '"n"', 1), (2, "gap", 2), (4, '"b"', 1)])
+        tree = read_text(table, "(n ab")
+        self.assertTrue(same(tree, SlowReading(table, "(n ab").read()))
 
     def test_inner_nodes_without_children(self):
         table = table_of('language a\nskip [ ]\nkind a = "ab"\nrule s = t a | t "ac"\nrule t = \n')

@@ -68,6 +68,11 @@ class WitnessTest(unittest.TestCase):
             self.check_all(build_table(read_grammar(blind)), text)
             self.check_all(build_table(read_grammar(blind.replace("recover r t", "recover r"))), text)
 
+    def test_a_question_examines_more_than_the_scans_behind_it(self):
+        question = 'language q\nskip [ ]\nkind gap = " a"\nrecover e\nrule s = "(" e "abc" | "(" e "b" | gap\nrule e = "n" "m"\n'
+        for text in ("(n ab", "(n abd", "(n abc", "(n  b"):
+            self.check_all(build_table(read_grammar(question)), text)
+
     def test_random_texts(self):
         chance = random.Random(51)
         for grammar in [read_grammar(notation) for notation in SAMPLES] * 5 + random_grammars(52, 150):

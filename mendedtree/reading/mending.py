@@ -51,7 +51,7 @@ class Mending:
             if answers:
                 self._ends[(target, at)] = (at, at + looked)
             elif kind == "end":
-                self._ends[(target, at)] = (-1, max(at + looked, far))
+                self._ends[(target, at)] = (-1, far)
             else:
                 passed.append((at, max(at + looked, far)))
                 at = behind

@@ -134,17 +134,17 @@ class Reading:
         at = self._place
         kind, _, behind, far = self._mending.leaf_at(at)
         while kind != "end":
-            self._reach(far)
             at = behind
             kind, _, behind, far = self._mending.leaf_at(at)
+        # The last scan examines the end of the text, so that no other one reaches farther.
         self._reach(far)
         self._mend(0, self._table.grammar.rules[0], at)
 
     def finish(self):
         """Takes the accepting step, and returns the root."""
         top = self._slots[-1]
-        lead, _, _, looked = self._table.sight(top.state).scan(self._text, self._place)
-        self._reach(self._place + looked)
+        # The decision to accept has already examined the end of the text, up to which this scan skips characters.
+        lead = self._table.sight(top.state).scan(self._text, self._place)[0]
         end = Node("end", "end", state=top.state, lead=lead, width=lead, look=top.reached - self._place)
         self._place = self._place + lead
         nodes = [slot.node for slot in self._pop(1)]

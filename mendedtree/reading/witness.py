@@ -5,7 +5,6 @@ from mendedtree.reading.mending import Mending
 from mendedtree.reading.reader import read_text
 from mendedtree.reading.tracing import steps_of
 from mendedtree.signs.alphabet import STRAY
-from mendedtree.signs.matching import least_match
 from mendedtree.trees.node import is_leaf
 from mendedtree.trees.paths import at_path
 
@@ -47,20 +46,19 @@ def _other_recovery(table, text, place, step):
     at, top, _, node = step
     popped = node.nodes[:node.popped]
     states = [child.state for child in popped] + [top]
-    mending = Mending(table, text)
-    holds = False
     for depth in range(len(popped), -1, -1):
-        holds = holds or any([_holds_leaf(child) for child in popped[depth:depth + 1]])
         for rule in table.grammar.recover:
             target = table.goto(states[depth], rule)
-            if target < 0 or not table.offers(target):
-                continue
-            end = mending.attempt(target, at, holds)[0]
-            if end < 0:
-                # This try failed, so it examined everything. It succeeds where something stands that its state offers.
-                return text[:place] + STRAY + _offered_text(table, target)
-            return _other_try(table, text, place, (target, at, end, holds))
-    return _other_resort(table, text, place, at)
+            if target >= 0 and table.offers(target):
+                asks = any([_holds_leaf(child) for child in popped[depth:]])
+                return _other_try(table, text, place, (target, at, asks))
+    return _longer(text, place)
+
+
+def _longer(text, place):
+    """A text in which a recovery differs that examines the end of the text."""
+    # If the recovery has the same outcome there, it has a longer footprint.
+    return text[:place] + STRAY * (len(text) + 1 - place)
 
 
 def _holds_leaf(node):
@@ -75,18 +73,13 @@ def _holds_leaf(node):
     return False
 
 
-def _offered_text(table, state):
-    """A text in which a state finds something that it offers."""
-    offers = table.offers(state)
-    if "end" in offers:
-        return ""
-    return [least_match(pattern) for name, pattern in table.grammar.kinds if name in offers][0]
-
-
-def _other_try(table, text, place, success):
-    """A text in which a try that succeeds differs; None, if it does not examine the place."""
-    target, at, end, asks = success
+def _other_try(table, text, place, attempt):
+    """A text in which the first try that examines anything differs; None, if it does not examine the place."""
+    target, at, asks = attempt
     mending = Mending(table, text)
+    end = mending.attempt(target, at, asks)[0]
+    if end < 0:
+        return _longer(text, place)
     while True:
         if asks and place < at + table.sight(target).has_answer(text, at)[1]:
             return table.lexicon.other(text, at, {name: 0 for name in table.offers(target)}, place - at)
@@ -97,16 +90,3 @@ def _other_try(table, text, place, success):
             return _other_leaf(table, text, at, place)
         at = behind
         asks = True
-
-
-def _other_resort(table, text, place, at):
-    """A text in which the last resort differs; None, if it does not examine the place."""
-    mending = Mending(table, text)
-    kind, _, behind, far = mending.leaf_at(at)
-    while kind != "end" and place >= far:
-        at = behind
-        kind, _, behind, far = mending.leaf_at(at)
-    if kind != "end":
-        return _other_leaf(table, text, at, place)
-    # One more leaf is skipped if the text does not end there.
-    return text[:place] + STRAY if place < far else None
