@@ -73,6 +73,36 @@ class WitnessTest(unittest.TestCase):
         for text in ("(n ab", "(n abd", "(n abc", "(n  b"):
             self.check_all(build_table(read_grammar(question)), text)
 
+    def test_a_try_that_fails_before_another_one(self):
+        # The try with e examines all of the text; behind "ab" a letter instead of the space gives a text as long.
+        notation = 'language q\nskip [ ]\nkind w = [a-z]+\nrecover e f\nrule s = "(" e "!" | "(" f ")" w*\nrule e = "1" "2"\nrule f = "1" "3"\n'
+        for text in ("(1)ab ", "(1)", "(1)ab c", "(1) `"):
+            self.check_all(build_table(read_grammar(notation)), text)
+
+    def test_a_scan_that_looks_far(self):
+        # The scan of "ab" ends at the last letter, where a stray character makes no difference to it.
+        kinds = 'language q\nkind long = "ab" | "abzcd"\nkind w = [a-z]\n'
+        table = build_table(read_grammar(kinds + 'rule s = t "z" w*\nrule t = "x" long\n'))
+        self.check_all(table, "xabzce")
+        blind = 'step none n\nkind n = [0-9]\nrecover r t\nrule s = r n | q n | t "z" | long w\nrule q = r @n\nrule r = "x" "y"\nrule t = "x" "w"\n'
+        table = build_table(read_grammar(kinds + blind))
+        self.check_all(table, "xabzce")
+        # Behind the error node the letters are single leaves.
+        table = build_table(read_grammar(kinds + 'recover e\nrule s = t | t "." | long\nrule t = "(" e ")" w w w w w\nrule e = "1"\n'))
+        for text in ("(`)abzce.", "(`)abzce"):
+            self.check_all(table, text)
+
+    def test_questions_that_are_not_asked(self):
+        statement = 'language a\nskip [ ]\nrecover e\nrule s = "a" e ";"\nrule e = "n"\n'
+        for text in ("a;;", "a;", "a ` ;", "an;;"):
+            self.check_all(build_table(read_grammar(statement)), text)
+        less = 'language a\nkind n = [0-9]\nstep none "<"\nrecover a e\nrule e = e "<" e | a\nrule a = n\n'
+        for text in ("1<`<2", "1<2<2", "1<`<`<3", "<<"):
+            self.check_all(build_table(read_grammar(less)), text)
+        empty = 'language a\nrecover e\nrule s = "a" o e ";"\nrule o = | "o"\nrule e = o "n" "m"\n'
+        for text in ("a;;", "an;", "ao;;", "a`;"):
+            self.check_all(build_table(read_grammar(empty)), text)
+
     def test_random_texts(self):
         chance = random.Random(51)
         for grammar in [read_grammar(notation) for notation in SAMPLES] * 5 + random_grammars(52, 150):

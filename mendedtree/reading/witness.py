@@ -83,7 +83,7 @@ def _other_try(table, text, place, attempt):
     while True:
         if asks and place < at + table.sight(target).has_answer(text, at)[1]:
             return table.lexicon.other(text, at, {name: 0 for name in table.offers(target)}, place - at)
-        if asks and at == end:
+        if at == end:
             return None
         _, _, behind, far = mending.leaf_at(at)
         if place < far:
