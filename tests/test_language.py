@@ -349,6 +349,26 @@ class LanguageTest(unittest.TestCase):
                 if changed in over:
                     self.fail_at(path, part, f"changes {changed}")
 
+    def test_loops_do_not_change_what_may_be_iterated_over_by_another_name(self):
+        for path, function in self.each_node():
+            if not isinstance(function, ast.FunctionDef):
+                continue
+            groups = same_lists(function)
+            for loop in ast.walk(function):
+                if isinstance(loop, ast.For):
+                    over = {groups.get(name, name) for name in iterated_names(loop.iter)}
+                    for part, changed in changes_in(loop.body):
+                        if over & {groups.get(name, name) for name in value_names(changed)}:
+                            self.fail_at(path, part, f"changes what row {loop.lineno} goes over")
+
+    def test_the_check_of_other_names_sees_them(self):
+        function = ast.parse("def f(a):\n    b = []\n    for k in a:\n        b.append(k)\n    a = b\n").body[0]
+        groups = same_lists(function)
+        self.assertEqual(groups["a"], groups["b"])
+        loop = function.body[1]
+        self.assertEqual(iterated_names(loop.iter), ["a"])
+        self.assertEqual([value_names(changed) for _, changed in changes_in(loop.body)], [["b"]])
+
     def test_only_numbers_are_changed_in_place(self):
         for path, node in self.each_node():
             if isinstance(node, ast.AugAssign):
@@ -397,6 +417,62 @@ class LanguageTest(unittest.TestCase):
         for path, tree in TREES.items():
             lines = [node.lineno for node in ast.walk(tree) if isinstance(node, ast.Lambda)]
             self.assertEqual(len(lines), len(set(lines)), path)
+
+
+def value_names(value):
+    """The names, attributes and items that a value may be."""
+    if isinstance(value, (ast.Name, ast.Attribute, ast.Subscript)):
+        return [ast.unparse(value)]
+    if isinstance(value, ast.IfExp):
+        return value_names(value.body) + value_names(value.orelse)
+    if isinstance(value, ast.BoolOp):
+        return [name for part in value.values for name in value_names(part)]
+    return []
+
+
+def iterated_names(value):
+    """The names of what a loop goes over."""
+    if isinstance(value, ast.Call) and isinstance(value.func, ast.Name):
+        if value.func.id in ("enumerate", "zip", "reversed"):
+            return [name for argument in value.args for name in iterated_names(argument)]
+    if isinstance(value, ast.Call) and isinstance(value.func, ast.Attribute):
+        if value.func.attr in ("items", "keys", "values"):
+            return value_names(value.func.value)
+    return value_names(value)
+
+
+def changes_in(rows):
+    """The pairs of each node in the rows that changes a list or a dict, and what it changes."""
+    found = []
+    for part in [inner for row in rows for inner in ast.walk(row)]:
+        if isinstance(part, ast.Call) and isinstance(part.func, ast.Attribute) and part.func.attr in MODIFYING:
+            found.append((part, part.func.value))
+        if isinstance(part, ast.Subscript) and isinstance(part.ctx, (ast.Store, ast.Del)):
+            found.append((part, part.value))
+    return found
+
+
+def same_lists(function):
+    """For each name that is assigned another one somewhere in a function, a name of the group of all of these."""
+    groups = {}
+    for node in ast.walk(function):
+        for target, value in assigned_pairs(node):
+            for one in value_names(target):
+                for other in value_names(value):
+                    old, new = groups.get(one, one), groups.get(other, other)
+                    groups.update({one: old, other: new})
+                    groups.update({name: new for name in groups if groups[name] == old})
+    return groups
+
+
+def assigned_pairs(node):
+    """The pairs (target, value) of a node, if it is an assignment."""
+    if not isinstance(node, ast.Assign):
+        return []
+    target, value = node.targets[0], node.value
+    if isinstance(target, ast.Tuple):
+        return list(zip(target.elts, value.elts)) if isinstance(value, ast.Tuple) else []
+    return [(target, value)]
 
 
 def bound_names(node, methods):

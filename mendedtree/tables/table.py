@@ -52,7 +52,8 @@ class Table:
         waiting = [(first, second)]
         while waiting:
             later = []
-            for pair in waiting:
+            # A list that is filled inside the loop takes its place, so the loop goes over a copy.
+            for pair in list(waiting):
                 symbol = self._difference(pair[0], pair[1])
                 if symbol is not None:
                     return _row_to(came, pair), symbol
