@@ -89,6 +89,12 @@ class SlowReading:
                 far = max(far, place + looked)
                 if answer is not None:
                     return True, skipped, place, far
+            known = self.known_leaf(place)
+            if known is not None:
+                far = max(far, place + known.look)
+                skipped.append(known)
+                place += known.width
+                continue
             lead, kind, width, looked = self.table.lexicon.scan(self.text, place, self.everything)
             far = max(far, place + looked)
             if kind == "end":
@@ -97,6 +103,10 @@ class SlowReading:
                 kind, width = "stray", 1
             skipped.append(Node(kind, kind, state=-1, lead=lead, width=lead + width, look=looked))
             place += lead + width
+
+    def known_leaf(self, place):
+        """A leaf that is taken instead of the scan of a skipped leaf."""
+        return None
 
     def mend(self, depth, rule, skipped, end, far):
         count = len(self.stack) - 1 - depth

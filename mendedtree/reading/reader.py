@@ -5,15 +5,11 @@ from mendedtree.reading.stack import Reading
 
 def read_text(table, text):
     """The root of the tree of a text."""
-    reading = Reading(table, text, 0, 0)
-    if reading.advance() is None:
-        reading.resort()
-        reading.advance()
-    return reading.finish()
+    return Reading(table, text, 0, 0, {}).read_whole()
 
 
 def read_from(table, text, place, state):
     """The pairs (place, node) of what can be read from a place on in a state."""
-    reading = Reading(table, text, place, state)
+    reading = Reading(table, text, place, state, {})
     reading.advance()
     return reading.placed()

@@ -5,7 +5,7 @@ from mendedtree.reading.mending import Mending
 from mendedtree.reading.reader import read_text
 from mendedtree.reading.tracing import steps_of
 from mendedtree.signs.alphabet import STRAY
-from mendedtree.trees.node import is_leaf
+from mendedtree.trees.node import has_leaf
 from mendedtree.trees.paths import at_path
 
 
@@ -50,7 +50,7 @@ def _other_recovery(table, text, place, step):
         for rule in table.grammar.recover:
             target = table.goto(states[depth], rule)
             if target >= 0 and table.offers(target):
-                asks = any([_holds_leaf(child) for child in popped[depth:]])
+                asks = any([has_leaf(child) for child in popped[depth:]])
                 return _other_try(table, text, place, (target, at, asks))
     return _longer(text, place)
 
@@ -59,18 +59,6 @@ def _longer(text, place):
     """A text in which a recovery differs that examines the end of the text."""
     # If the recovery has the same outcome there, it has a longer footprint.
     return text[:place] + STRAY * (len(text) + 1 - place)
-
-
-def _holds_leaf(node):
-    """Tells whether a node has a leaf that is not inside an error node."""
-    waiting = [node]
-    while waiting:
-        last = waiting.pop()
-        if is_leaf(last):
-            return True
-        if last.kind != "error":
-            waiting.extend(list(last.nodes))
-    return False
 
 
 def _other_try(table, text, place, attempt):

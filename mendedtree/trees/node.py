@@ -24,6 +24,18 @@ def is_leaf(node):
     return node.alternative == -1 and node.kind not in ("error", "root")
 
 
+def has_leaf(node):
+    """Tells whether a node has a leaf that is not inside an error node; it may be that leaf itself."""
+    waiting = [node]
+    while waiting:
+        last = waiting.pop()
+        if is_leaf(last):
+            return True
+        if last.kind != "error":
+            waiting.extend(list(last.nodes))
+    return False
+
+
 def same(first, second):
     """Tells whether two trees have equal attributes at all paths."""
     # Pairs are compared once only, because a tree may contain one node at very many paths.

@@ -1,0 +1,1 @@
+"""Keeping the trees of texts that are edited."""
