@@ -37,6 +37,12 @@ class Matcher:
             return ("inside", self._keep(item[1]))
         return item
 
+    def keep_only(self, nodes):
+        """Forgets what it found at other nodes than the keys of a dictionary."""
+        self._children = {node: self._children[node] for node in self._children if node in nodes}
+        self._found = {key: self._found[key] for key in self._found if key[1] in nodes}
+        self._below = {key: self._below[key] for key in self._below if key[1] in nodes}
+
     def seen_children(self, node):
         """The seen children of a node, as `seen` returns them."""
         if node not in self._children:

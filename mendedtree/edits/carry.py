@@ -15,7 +15,7 @@ class Carry:
         return iter(self.runs)
 
     def __add__(self, other):
-        return Carry(self.old, other.new, _joined(_through(self.runs, other.runs)))
+        return Carry(self.old, other.new, joined_runs(_through(self.runs, other.runs)))
 
     def __neg__(self):
         return Carry(self.new, self.old, tuple([(new, old, count) for old, new, count in self.runs]))
@@ -25,11 +25,11 @@ class Carry:
 
     def to_new(self, place):
         """The new place of the item at an old place, or -1."""
-        return _across(self.runs, 0, place)
+        return across(self.runs, 0, place)
 
     def to_old(self, place):
         """The old place of the item at a new place, or -1."""
-        return _across(self.runs, 1, place)
+        return across(self.runs, 1, place)
 
     def intact(self, start, end):
         """Tells whether the items from an old place to another one survive as consecutive items."""
@@ -55,7 +55,7 @@ class Carry:
         return self.runs[index + 1][1]
 
 
-def _across(runs, text, place):
+def across(runs, text, place):
     """The place, in the other text, of the item at a place of the old text (text 0) or the new one (text 1), or -1."""
     # The run can only be the last one that begins at or before the place.
     index = _count_up_to(runs, text, place) - 1
@@ -94,7 +94,7 @@ def _through(first, second):
     return pieces
 
 
-def _joined(pieces):
+def joined_runs(pieces):
     """Runs as long as possible."""
     runs = []
     for old, new, count in pieces:
@@ -118,4 +118,4 @@ def _carry_of_one(length, start, end, count):
     """The carry of an edit that replaces the characters between two places by some number of characters."""
     behind = start + count
     pieces = [(0, 0, start), (end, behind, length + 1 - end)]
-    return Carry(length, length - end + behind, _joined([piece for piece in pieces if piece[2] > 0]))
+    return Carry(length, length - end + behind, joined_runs([piece for piece in pieces if piece[2] > 0]))

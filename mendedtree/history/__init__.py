@@ -1,0 +1,1 @@
+"""The versions of a text that is edited."""

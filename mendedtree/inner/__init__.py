@@ -1,0 +1,1 @@
+"""Languages within languages."""
