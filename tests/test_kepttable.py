@@ -120,6 +120,19 @@ class KeptTableTest(unittest.TestCase):
             for table, expected in history:
                 self.check(table, expected)
 
+    def test_removals_from_large_tables(self):
+        chance = random.Random(62)
+        for _ in range(20):
+            keys = [f"k{number:03}" for number in range(chance.randint(50, 150))]
+            chance.shuffle(keys)
+            table = KeptTable.empty()
+            for key in keys:
+                table = table.put(key, 1)
+            chance.shuffle(keys)
+            while keys:
+                table = table.without(keys.pop())
+                self.check_form(table, sorted(keys))
+
     def test_pairs_are_new(self):
         table = KeptTable.empty().put("a", 1)
         table.pairs().clear()
