@@ -25,7 +25,7 @@ def _pieces_in(tree, symbols):
         place, node = waiting.pop()
         if node.kind == "error" or node.symbol not in symbols:
             waiting.extend(placed_nodes(node.nodes, place))
-        elif node.width > 0:
+        elif node.lead < node.width:
             found.append((place + node.lead, place + node.width))
     return tuple(found)
 
@@ -46,10 +46,13 @@ def pieces_carry(old, new, carry):
     size = new_runs[-1][1] + new_runs[-1][2]
     # For each item of the old inner text its new index, or -1.
     moved = []
+    last = -1
     for start, end in old:
-        moved.extend([across(new_runs, 0, carry.to_new(place)) for place in range(start, end)])
-        behind = moved[-1] + 1
-        moved.append(behind if 0 < behind < size and across(new_runs, 1, behind) < 0 else -1)
+        for place in range(start, end):
+            last = across(new_runs, 0, carry.to_new(place))
+            moved.append(last)
+        survives = 0 <= last < size - 1 and across(new_runs, 1, last + 1) < 0
+        moved.append(last + 1 if survives else -1)
     # What stands behind the last piece is not a seam, but the end.
     moved[-1] = size
     runs = [(index, place, 1) for index, place in enumerate(moved) if place >= 0]
