@@ -136,6 +136,13 @@ class LanguageTest(unittest.TestCase):
             self.assertTrue(ready, f"modules import each other: {sorted(set(graph) - done)}")
             done |= set(ready)
 
+    def test_each_part_uses_only_parts_before_it(self):
+        parts = ["errors", "signs", "grammar", "tables", "trees", "reading", "edits", "keeping", "asking", "inner", "history"]
+        for path, node in self.each_node():
+            if isinstance(node, ast.ImportFrom):
+                part = module_name(path).split(".")[1]
+                self.assertLessEqual(parts.index(node.module.split(".")[1]), parts.index(part), path)
+
     def test_imports_are_used(self):
         for path, tree in TREES.items():
             used = {node.id for node in ast.walk(tree) if isinstance(node, ast.Name)}
