@@ -261,6 +261,29 @@ class LanguageTest(unittest.TestCase):
                 if node.attr not in methods | attributes | METHODS:
                     self.fail_at(path, node, f"attribute {node.attr}")
 
+    def test_attributes_are_assigned_through_local_names(self):
+        for path, tree in TREES.items():
+            for node in assigned_otherwise(tree):
+                self.fail_at(path, node, f"assigns {ast.unparse(node)}")
+
+    def test_the_check_of_assigned_attributes_sees_them(self):
+        rows = [
+            "def f(a, *, b):\n    c = a.at(1)\n    c.x = b.x = 1\n    for c.y in a:\n        a.x += 1\n",
+            "def f(a):\n    a.at(1).x = 1\n",
+            "def f(a):\n    a[0].x += 1\n",
+            "def f(a):\n    b, (a.b.x, c) = a\n",
+            "def f(a):\n    for a.b.x in a:\n        pass\n",
+            "def f(a):\n    Box.x = a\n",
+            "class Box:\n    @classmethod\n    def f(cls, a):\n        cls.x = a\n",
+            "def f(a):\n    del a.x\n",
+            "def f(a):\n    b = 1\ndef g(a):\n    b.x = 1\n",
+            "def f(a):\n    def g(b):\n        a.x = b\n",
+            "b = 1\nb.x = 1\n",
+        ]
+        found = [[ast.unparse(node) for node in assigned_otherwise(ast.parse(row))] for row in rows]
+        others = ["a.at(1).x", "a[0].x", "a.b.x", "a.b.x", "Box.x", "cls.x", "a.x", "b.x", "a.x", "b.x"]
+        self.assertEqual(found, [[]] + [[other] for other in others])
+
     def test_calls(self):
         for path, node in self.each_node():
             if not isinstance(node, ast.Call):
@@ -480,6 +503,35 @@ def assigned_pairs(node):
     if isinstance(target, ast.Tuple):
         return list(zip(target.elts, value.elts)) if isinstance(value, ast.Tuple) else []
     return [(target, value)]
+
+
+def assigned_otherwise(tree, names=()):
+    """The attributes that are assigned through anything but a local name, or deleted; names are the local names here."""
+    found = []
+    for node in ast.iter_child_nodes(tree):
+        if isinstance(node, ast.Attribute) and not isinstance(node.ctx, ast.Load):
+            local = isinstance(node.value, ast.Name) and node.value.id in names
+            if isinstance(node.ctx, ast.Del) or not local:
+                found.append(node)
+        is_function = isinstance(node, ast.FunctionDef)
+        found.extend(assigned_otherwise(node, local_names(node) if is_function else names))
+    return found
+
+
+def local_names(function):
+    """The parameters and the local variables of a function, but no name of a class."""
+    names = [argument.arg for argument in function.args.args + function.args.kwonlyargs]
+    if "classmethod" in [ast.unparse(decorator) for decorator in function.decorator_list]:
+        names.pop(0)
+    return names + [name for row in function.body for name in stored_names(row)]
+
+
+def stored_names(node):
+    """The names that a node assigns, outside of functions that are nested in it."""
+    if isinstance(node, ast.FunctionDef):
+        return []
+    own = [node.id] if isinstance(node, ast.Name) and isinstance(node.ctx, ast.Store) else []
+    return own + [name for part in ast.iter_child_nodes(node) for name in stored_names(part)]
 
 
 def bound_names(node, methods):

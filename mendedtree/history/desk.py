@@ -101,7 +101,8 @@ class Desk:
         self._now = number
         origin = self._all.at(number).origin
         if origin >= 0:
-            self._all.at(origin).recent = number
+            before = self._all.at(origin)
+            before.recent = number
 
     def undo(self):
         """Makes the parent current; returns its number."""
